@@ -4,6 +4,7 @@ import itertools
 import random
 import unittest
 
+from samples import ANY_THINGS, at_path, names, paths, put
 from throughlines.nets import is_net, lines_at, road_of_lines, tie_between
 
 LINES = ("north", "south", "east", "west")
@@ -17,19 +18,6 @@ TIES = (
     ("crewe", "bath", "west", 77),
 )
 NET = (LINES, STATIONS, JUNCTIONS, TIES)
-
-ANY_THINGS = (
-    None, True, False, 0, 1, -1, 9999, 10 ** 59, -(10 ** 59), "", "a", "north", "york", "~ !", "x" * 4000,
-    [], (), [[]], ((),), [()], ([],), ["north"], ("north",), ("north", "south"), ["north", "south"],
-    (1, 2, 3, 4), ((), (), (), ()), [(), (), (), ()], ("a", "b", "c", "d"), (None,) * 4,
-    ((((((1,),),),),),), [[[[[["a"]]]]]], list(range(1500)), tuple(range(1500)), ("a",) * 1500,
-)
-
-
-def names(many, length=1):
-    """Unlike names of that many letters, in order."""
-    letters = itertools.product("abcdefghijklmnopqrstuvwxyz", repeat=length)
-    return tuple("".join(next(letters)) for _ in range(many))
 
 
 def with_lines(lines):
@@ -60,29 +48,6 @@ def of_junctions(*joined):
     """A net of eight lines, a to h, and a junction for each text of lines."""
     marks = names(len(joined), 2)
     return (tuple("abcdefgh"), (), tuple((mark, tuple(lines)) for mark, lines in zip(marks, joined)), ())
-
-
-def put(thing, path, new):
-    """The tuples within one another with the thing at the path put otherwise."""
-    if not path:
-        return new
-    at = path[0]
-    return thing[:at] + (put(thing[at], path[1:], new),) + thing[at + 1:]
-
-
-def paths(thing, path=()):
-    """The paths to all things within the tuples, and that to the whole."""
-    found = [path]
-    if isinstance(thing, tuple):
-        for at, inner in enumerate(thing):
-            found += paths(inner, path + (at,))
-    return found
-
-
-def at_path(thing, path):
-    for at in path:
-        thing = thing[at]
-    return thing
 
 
 class Net(unittest.TestCase):

@@ -100,33 +100,45 @@ def tie_between(net, place, far):
 
 def road_of_lines(net, line, far):
     """The shortest road of lines, of the shortest ones the least."""
-    if line not in net[0] or far not in net[0]:
+    if far not in net[0]:
         return []
-    steps = steps_to(net, far)
+    return road_to_any(net, line, [far])
+
+
+def road_to_any(net, line, fars):
+    """The shortest road of lines to any of the far ones, of the shortest ones the least."""
+    if line not in net[0]:
+        return []
+    beside = lines_beside(net)
+    steps = steps_to(beside, fars)
     if line not in steps:
         return []
     road = [line]
-    while road[-1] != far:
+    while steps[road[-1]] > 0:
         nearer = steps[road[-1]] - 1
-        onward = [near for near in lines_beside(net, road[-1]) if steps[near] == nearer]
+        onward = [near for near in beside[road[-1]] if steps[near] == nearer]
         # Each of these has a shortest road behind it, so the least one begins the least road.
         road.append(min(onward))
     return road
 
 
-def steps_to(net, far):
-    """A dict: of each line that has a road to the far one how many steps that takes."""
+def steps_to(beside, fars):
+    """A dict: of each line that has a road to one of the far ones how many steps the shortest takes."""
     steps = {}
     many = 0
-    edge = [far]
+    edge = fars
     while edge:
         for line in edge:
             steps[line] = many
         many += 1
-        edge = sorted({near for line in edge for near in lines_beside(net, line) if near not in steps})
+        edge = sorted({near for line in edge for near in beside[line] if near not in steps})
     return steps
 
 
-def lines_beside(net, line):
-    """The lines that have a junction in common with this one, it among them if any has."""
+def lines_beside(net):
+    """A dict: of each line those that have a junction in common with it, itself among them if any has."""
+    return {line: lines_joined(net, line) for line in net[0]}
+
+
+def lines_joined(net, line):
     return sorted({beside for name, joined in net[2] if line in joined for beside in joined})
