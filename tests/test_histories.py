@@ -7,31 +7,10 @@ import random
 import time
 import unittest
 
-from samples import ANY_THINGS, draw_net
+from samples import ANY_THINGS, RING, ROW, draws, gone, net_of, walk
 from throughlines.errors import HouseError, NoProof
 from throughlines.histories import gap_road, history, lacking, look_history, perhaps_of
 from throughlines.nets import is_net
-
-
-def net_of(lines, *junctions):
-    """A net of lines and junctions of one letter a line, a junction's name being that of its lines."""
-    return (tuple(lines), (), tuple(("".join(joined), tuple(joined)) for joined in junctions), ())
-
-
-# A row of five lines, an island of two, and one line without any junction.
-ROW = net_of("abcdefgh", "ab", "bc", "cd", "de", "fg")
-# A ring of six lines.
-RING = net_of("abcdef", "ab", "bc", "cd", "de", "ef", "af")
-
-
-def gone(number, junction, over, day=None, hour=0, wagon=1234, seal="whole"):
-    """A return, by its number if no day is told."""
-    return ("return", number, 1, junction, number if day is None else day, hour, wagon, over, "laden", seal)
-
-
-def walk(*words):
-    """Returns of the numbers 1, 2 and so on, of words as "bc:c": at bc over to c."""
-    return [gone(number, *word.split(":")) for number, word in enumerate(words, start=1)]
 
 
 @functools.lru_cache(maxsize=None)
@@ -143,35 +122,6 @@ def look_by_words(net, line, returns, thing):
     if any(most is not None and mark > most for mark, most in zip(thing[1], mark_bounds(net, line, rows, thing[1]))):
         return "marks"
     return "many" if wrong_in(thing[0]) > most_let(thing[1]) else None
-
-
-def draw_returns(chance, net, line, many):
-    """Returns of a walk, of which some are misread, some fell out, and some are of one hour."""
-    found = []
-    day = chance.randint(1, 5)
-    while len(found) < many and net[2]:
-        near = [(name, over) for name, joined in net[2] if line in joined for over in joined if over != line]
-        name, over = chance.choice(near or [(name, joined[0]) for name, joined in net[2]])
-        line = over
-        if chance.random() < 0.3:
-            name, joined = chance.choice(net[2])
-            over = chance.choice(joined)
-        if chance.random() < 0.8:
-            found.append((name, over, day, chance.randint(0, 2)))
-        day = min(420, day + chance.choice((0, 0, 1)))
-    numbers = chance.sample(range(1, 10000), len(found))
-    rows = [gone(number, name, over, on, hour) for number, (name, over, on, hour) in zip(numbers, found)]
-    chance.shuffle(rows)
-    return rows
-
-
-def draws(seed, many, most):
-    """Nets, lines and returns, the same ones in each run."""
-    chance = random.Random(seed)
-    for _ in range(many):
-        net = draw_net(chance, chance.randint(2, 7), 0, chance.randint(0, 7), 0)
-        line = chance.choice(net[0])
-        yield chance, net, line, draw_returns(chance, net, line, chance.randint(0, most))
 
 
 class Lacking(unittest.TestCase):

@@ -1,7 +1,7 @@
 """Histories of wagons: returns held and put aside, gaps, and marks that show that none has fewer wrong."""
 
 from throughlines.errors import NoProof
-from throughlines.kinds import is_tuple, is_whole
+from throughlines.kinds import is_pair_of_lists, is_tuple, is_whole
 from throughlines.nets import lines_beside, lines_joined, road_to_any, steps_to
 from throughlines.papers import DAY, HOUR, JUNCTION, NUMBER, OVER, WAGON
 
@@ -62,6 +62,19 @@ def fewest_onward(net, rows, lacks):
     return found
 
 
+def histories_of(net, wagons, returns):
+    """A dict: of each wagon its steps and its own returns."""
+    found = {}
+    for number, line in wagons:
+        own = returns_of(returns, number)
+        found[number] = (history(net, line, own)[0], own)
+    return found
+
+
+def returns_of(returns, wagon):
+    return [row for row in returns if row[WAGON] == wagon]
+
+
 def history(net, line, returns):
     """The wagon's history with the fewest wrong returns, as (steps, marks)."""
     rows = in_order(returns)
@@ -81,17 +94,32 @@ def steps_of(net, line, rows, lacks, fewest):
         if lack is None or lack + fewest[at + 1][row[OVER]] > fewest[at][line]:
             told.append(("aside", row[NUMBER]))
             continue
-        road = gap_road(net, line, row[JUNCTION], row[OVER])
         if lack > 0:
+            road = gap_road(net, line, row[JUNCTION], row[OVER])
             told.append(("gap", tuple(road)))
-        told.append(("held", row[NUMBER], road[-1], row[OVER]))
+            line = road[-1]
+        told.append(("held", row[NUMBER], line, row[OVER]))
         line = row[OVER]
+    return told
+
+
+def held_returns(steps, returns):
+    """The held returns in order, as (road, line, return): the gap's road ahead, empty without one, and from where."""
+    by_number = {row[NUMBER]: row for row in returns}
+    told = []
+    road = ()
+    for step in steps:
+        if step[0] == "gap":
+            road = step[1]
+        elif step[0] == "held":
+            told.append((road, step[2], by_number[step[1]]))
+            road = ()
     return told
 
 
 def look_history(net, line, returns, thing):
     """Refuses what is no history of these returns, or whose marks don't show that none has fewer wrong."""
-    if not is_tuple(thing, 2, 2) or not all([isinstance(half, list) for half in thing]):
+    if not is_pair_of_lists(thing):
         raise NoProof("paper")
     steps, marks = thing
     rows = in_order(returns)
@@ -180,7 +208,7 @@ def perhaps_of(net, wagons, returns, paper):
 def is_perhaps_of(net, number, line, returns, paper):
     if unlike_figures(number, paper[WAGON]) != 1:
         return False
-    own = [row for row in returns if row[WAGON] == number]
+    own = returns_of(returns, number)
     # A history doesn't look at the wagon's number, so the return is as good as one of that wagon.
     return fewest_wrong(net, line, own + [paper]) < fewest_wrong(net, line, own)
 

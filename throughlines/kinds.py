@@ -24,6 +24,10 @@ def is_tuple(thing, fewest, most):
     return isinstance(thing, tuple) and fewest <= len(thing) <= most
 
 
+def is_pair_of_lists(thing):
+    return is_tuple(thing, 2, 2) and all([isinstance(half, list) for half in thing])
+
+
 def all_unlike(things):
     """Whether no two of them are alike: names, or tuples of names."""
     return len(set(things)) == len(things)

@@ -17,6 +17,8 @@ DAY = 4
 HOUR = 5
 WAGON = 6
 OVER = 7
+LOAD = 8
+SEAL = 9
 FIRST_DAY = 4
 
 KINDS = ("waybill", "return", "toll", "claim", "answer", "ruling", "withdrawal")
@@ -154,6 +156,11 @@ def standing(papers, kind):
     newest = newest_papers(papers)
     keys = sorted([key for key in newest if key[0] == kind and len(newest[key]) == 1])
     return [newest[key][0] for key in keys]
+
+
+def all_standing(papers):
+    """A dict: of each kind a dict of its standing papers, by number."""
+    return {kind: {paper[NUMBER]: paper for paper in standing(papers, kind)} for kind in KINDS}
 
 
 def clashing(papers):

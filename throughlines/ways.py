@@ -40,7 +40,12 @@ def crossings(net, way):
 
 def line_chains(net, way):
     """Each line once, by its first leg, with the chains of all its legs."""
+    return chains_by_line(legs(net, way))
+
+
+def chains_by_line(run):
+    """Of some legs each line once, by the first of them, with the chains of all of them."""
     found = {}
-    for line, chains in legs(net, way):
+    for line, chains in run:
         found[line] = found.get(line, 0) + chains
     return list(found.items())
