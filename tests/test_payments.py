@@ -320,6 +320,7 @@ class LookPayments(unittest.TestCase):
 
     def test_places_beyond_the_lines(self):
         self.payments_refused(self.PAYMENTS + [(6, 0, 1), (0, 6, 1)], self.PAYMENTS + [(-1, 0, 1), (0, -1, 1)])
+        self.payments_refused(self.PAYMENTS + [(6, 0, 1)], self.PAYMENTS + [(0, 6, 1)], self.PAYMENTS + [(0, 7, 1)])
         # Place -5 would be that of line 1, counted from the end.
         self.payments_refused([(-5, 0, 5)] + self.PAYMENTS[1:], [(1, -6, 5)] + self.PAYMENTS[1:])
 
