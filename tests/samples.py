@@ -1,4 +1,4 @@
-"""Things that several tests hand in: any things, names, nets and ways drawn by a seed."""
+"""Things that several tests hand in: any things, names, a house with its papers, and drawn ones by a seed."""
 
 import itertools
 import random
@@ -123,6 +123,43 @@ def draws(seed, many, most):
         net = draw_net(chance, chance.randint(2, 7), 0, chance.randint(0, 7), 0)
         line = chance.choice(net[0])
         yield chance, net, line, draw_returns(chance, net, line, chance.randint(0, most))
+
+
+# The house of several tests: a row of three lines.
+NET = (
+    ("north", "south", "east"),
+    (("york", "north"), ("ripon", "north"), ("hull", "south"), ("bath", "east")),
+    (("selby", ("north", "south")), ("crewe", ("south", "east"))),
+    (("york", "ripon", "north", 5), ("york", "selby", "north", 10), ("selby", "hull", "south", 30),
+     ("selby", "crewe", "south", 20), ("crewe", "bath", "east", 70)),
+)
+# By their chains: north 10, south 20, east 70; north 10, south 30; north 5.
+WAYS = [
+    ("york", "selby", "crewe", "bath"), ("york", "selby", "hull"), ("york", "ripon"), ("bath", "crewe", "selby", "york"),
+]
+WAGONS = [(20, "north"), (30, "south"), (9999, "east")]
+# No end's sum, two free days, three pence a day, no leasts.
+RULES = (0, 2, 3, (0, 0, 0))
+
+
+def bill(number=7, day=31, way=0, paid=100, collected=0, cartage=(0, 0), wagon=20, edition=1):
+    return ("waybill", number, edition, day, way, paid, collected, cartage, wagon)
+
+
+def toll(number, line, first, last, pence, edition=1):
+    return ("toll", number, edition, line, first, last, pence)
+
+
+def claim(number=3, of=7, pence=100, edition=1):
+    return ("claim", number, edition, of, pence)
+
+
+def ruling(number, *told, of=3, edition=1):
+    return ("ruling", number, edition, of, told)
+
+
+def answer(number, line, of=3, edition=1):
+    return ("answer", number, edition, of, line)
 
 
 def draw_house(chance):

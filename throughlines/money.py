@@ -1,6 +1,7 @@
 """Whole pence parted by weights, wishes and leasts; days and months."""
 
 MONTH_DAYS = 30
+MONTHS = 14
 
 
 def parts(pence, weights):

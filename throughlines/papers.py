@@ -160,7 +160,12 @@ def standing(papers, kind):
 
 def all_standing(papers):
     """A dict: of each kind a dict of its standing papers, by number."""
-    return {kind: {paper[NUMBER]: paper for paper in standing(papers, kind)} for kind in KINDS}
+    newest = newest_papers(papers)
+    found = {kind: {} for kind in KINDS}
+    for kind, number in sorted(list(newest)):
+        if len(newest[(kind, number)]) == 1:
+            found[kind][number] = newest[(kind, number)][0]
+    return found
 
 
 def clashing(papers):
